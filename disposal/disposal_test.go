@@ -11,6 +11,7 @@ import (
 	"testing"
 
 	"archivum/api"
+	"archivum/copies"
 	"archivum/verdict"
 )
 
@@ -86,27 +87,6 @@ func full() api.Registry {
 	return x
 }
 
-func clone[T any](l []T, own func(*T)) []T {
-	out := slices.Clone(l)
-	for i := range out {
-		own(&out[i])
-	}
-	return out
-}
-
-// duplicate returns a registry that shares no memory with another one.
-func duplicate(x api.Registry) api.Registry {
-	x.Offices = clone(x.Offices, func(o *api.Office) { o.Next = slices.Clone(o.Next) })
-	x.Plans = clone(x.Plans, func(p *api.Plan) { p.Classes, p.Moved = slices.Clone(p.Classes), slices.Clone(p.Moved) })
-	x.Files = clone(x.Files, func(f *api.File) { f.Notes = slices.Clone(f.Notes) })
-	x.Rules, x.Holds, x.Clerks = slices.Clone(x.Rules), slices.Clone(x.Holds), slices.Clone(x.Clerks)
-	x.Selections = clone(x.Selections, func(s *api.Selection) { s.Files = slices.Clone(s.Files) })
-	x.Proposals = clone(x.Proposals, func(p *api.Proposal) { p.Files = slices.Clone(p.Files) })
-	x.Approvals, x.Departures = slices.Clone(x.Approvals), slices.Clone(x.Departures)
-	x.Certificates = clone(x.Certificates, func(c *api.Certificate) { c.Files = slices.Clone(c.Files) })
-	return x
-}
-
 // equal reports whether two values are the same; nil lists and empty ones are.
 func equal(a, b reflect.Value) bool {
 	switch a.Kind() {
@@ -156,12 +136,12 @@ func scribble(v reflect.Value) {
 // the same afterwards.
 func apart(t *testing.T, x, result api.Registry) {
 	t.Helper()
-	was, kept := duplicate(x), duplicate(result)
+	was, kept := copies.Registry(x), copies.Registry(result)
 	scribble(reflect.ValueOf(result))
 	if !same(x, was) {
 		t.Error("the argument is shared")
 	}
-	result = duplicate(kept)
+	result = copies.Registry(kept)
 	scribble(reflect.ValueOf(x))
 	if !same(result, kept) || same(x, was) {
 		t.Error("the result is shared")
@@ -219,7 +199,7 @@ func TestCheckGood(t *testing.T) {
 	late := full()
 	late.Approvals = append(late.Approvals, api.Approval{Proposal: 2, Day: 99, Clerk: 5})
 	for i, x := range []api.Registry{{}, base(), full(), clerks, most, ends, served, late, {Changed: -1}} {
-		was := duplicate(x)
+		was := copies.Registry(x)
 		if e := Check(x); e != api.OK || !same(x, was) {
 			t.Error(i, e)
 		}
@@ -637,7 +617,7 @@ func TestReadyRows(t *testing.T) {
 		{func() { x.Approvals = slices.Delete(x.Approvals, 2, 3) }, api.ErrDenied},
 	} {
 		step.apply()
-		was := duplicate(x)
+		was := copies.Registry(x)
 		if e := Ready(x, 1, day); e != step.e || Check(x) != api.OK || !same(x, was) {
 			t.Error(i, e, Check(x))
 		}
@@ -701,7 +681,7 @@ func TestDestroy(t *testing.T) {
 	} {
 		x := open()
 		c.apply(&x)
-		was := duplicate(x)
+		was := copies.Registry(x)
 		y, made, e := Destroy(x, 6, c.day)
 		if e != c.e || !same(x, was) {
 			t.Error(i, e)
@@ -712,7 +692,7 @@ func TestDestroy(t *testing.T) {
 			}
 			continue
 		}
-		want := duplicate(was)
+		want := copies.Registry(was)
 		want.Certificates = chained(append(want.Certificates, api.Certificate{Proposal: 6, Day: c.day, Files: []int{9, 11}})...)
 		last := len(want.Certificates) - 1
 		if !same(y, want) || !reflect.DeepEqual(made, want.Certificates[last]) || Check(y) != api.OK {
